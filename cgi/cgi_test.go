@@ -70,7 +70,7 @@ func TestErrors(t *testing.T) {
 		"X: 1\r\r\n": api.ErrForm, "X: 1\rY\n": api.ErrForm, "\r\r\n": api.ErrForm,
 		strings.Repeat("n", api.MaxName+1) + ":\n": api.ErrLarge, "X:" + strings.Repeat("v", api.MaxValue+1) + "\n": api.ErrLarge,
 		fields(api.MaxFields) + "X:\n": api.ErrLarge, fields(api.MaxFields) + "X\n": api.ErrForm,
-		"Status: 200\nstatus: 200\n\n": api.ErrForm, "Status: 199\n\n": api.ErrForm, "Status:\n" + typed + "\n": api.ErrForm, "Status: x\nLocation: /\n\n": api.ErrForm,
+		"Status: 200\nstatus: 200\n\n": api.ErrForm, typed + "Status: 200\nStatus: 200\n\n": api.ErrForm, "Status: 199\n\n": api.ErrForm, "Status:\n" + typed + "\n": api.ErrForm, "Status: x\nLocation: /\n\n": api.ErrForm,
 	} {
 		for _, size := range []int{1, 10000} {
 			r := New(10000)

@@ -47,6 +47,9 @@ func (r rig) do(a api.Act) (int, string) {
 	if err != nil {
 		r.Fatalf("act %v: %v", a, err)
 	}
+	if a.Kind != api.AFeed && a.Kind != api.BFeed && n != 0 || a.Kind != api.ADrain && a.Kind != api.BDrain && s != "" {
+		r.Errorf("P24.1: act %v: %d, %q", a, n, s)
+	}
 	return n, s
 }
 
@@ -552,6 +555,26 @@ func TestStuck(t *testing.T) {
 	}
 	r.tick(1)
 	r.outcomes([4]int{0, 1, api.OCut, 0}, [4]int{1, 1, api.OCut, 0}, [4]int{2, 1, api.OError, 504}, [4]int{3, 1, api.OError, 502})
+}
+
+// P24.4: a connection that is closed leaves the others as they are, and nothing is kept of it.
+func TestOthersGoOn(t *testing.T) {
+	r := newRig(t, func(c *api.Conf) { c.Conns = 2 })
+	for i := range 3 {
+		r.connect(i)
+		r.feed(i, get)
+	}
+	r.take(1)
+	r.take(2)
+	r.do(api.Act{Kind: api.BClose, Who: 1})
+	r.say(2, out(1, typed), end(1))
+	r.told(1, head200+"0\r\n\r\n")
+	r.outcomes([4]int{0, 1, api.OError, 502}, [4]int{1, 1, api.OAnswer, 200}, [4]int{2, 1, api.OError, 502})
+	for p := range r.g.jobs {
+		if p.conn != 2 {
+			t.Errorf("P24.5: kept of %v", p)
+		}
+	}
 }
 
 // P24.1, P24.4: a stop: those who ask for nothing go, those under way end behind their answer.

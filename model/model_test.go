@@ -116,6 +116,18 @@ func TestRequests(t *testing.T) {
 	}
 }
 
+// P25.1: a configuration that may not be is the small one.
+func TestHeld(t *testing.T) {
+	s := "GET / HTTP/1.0\r\nX: " + strings.Repeat("x", 500) + "\r\n\r\n"
+	if l, status := Requests(api.Conf{Head: 9}, s); len(l) != 1 || status != 0 {
+		t.Errorf("P25.1: %v, %d", l, status)
+	}
+	r := api.Request{Method: "GET", Target: "/"}
+	if got := Whole(api.Conf{Head: 9}, r, "Content-Type: a\n\n"); !strings.Contains(got, " 200 ") {
+		t.Errorf("P25.1: %q", got)
+	}
+}
+
 // P25.2: what the gate makes of requests is what the model says.
 func TestAsTheGate(t *testing.T) {
 	for _, s := range []string{"GET /app/x HTTP/1.1\r\nHost: a\r\nX: y\r\n\r\n", "PUT /only HTTP/1.1\r\nHost: a\r\n\r\n", "GET /u/1 HTTP/1.1\r\nHost: h\r\n\r\n", "GET /none HTTP/1.0\r\n\r\n", "HEAD /x.php/i HTTP/1.0\r\nConnection: keep-alive\r\n\r\n"} {

@@ -37,6 +37,15 @@ func TestThereAndBack(t *testing.T) {
 			t.Errorf("P3.1: %v, %v", got, err)
 		}
 	}
+	if got, err := Read("\x00\x80\x00\x00\x00"); err != nil || !slices.Equal(got, []api.Pair{{}}) {
+		t.Errorf("P3.1: nothing, told by four bytes: %v, %v", got, err)
+	}
+	for _, n := range []int{1<<16 + 1<<8 + 3, 1<<24 + 5} {
+		l := []api.Pair{{Name: strings.Repeat("n", n), Value: strings.Repeat("v", n+1)}, {Name: "a"}}
+		if got, err := Read(Bytes(l...)); !slices.Equal(got, l) || err != nil {
+			t.Errorf("P3.1: %d bytes: %d, %v", n, len(got), err)
+		}
+	}
 	if got, err := Read("\x80\x00\x00\x01\x00a"); err != nil || !slices.Equal(got, []api.Pair{{Name: "a"}}) {
 		t.Errorf("P3.1: a small length of four bytes: %v, %v", got, err)
 	}
@@ -48,6 +57,11 @@ func TestReadErrors(t *testing.T) {
 	for i := 1; i < len(whole); i++ {
 		if l, err := Read(whole[:i]); l != nil || !errors.Is(err, api.ErrShort) {
 			t.Errorf("P3.1: %d bytes: %v, %v", i, l, err)
+		}
+	}
+	for _, s := range []string{"\x00", "\x00\x00\x00", "\x00\x80\x00\x00", "\x80\x00\x00\x00"} {
+		if l, err := Read(s); l != nil || !errors.Is(err, api.ErrShort) {
+			t.Errorf("P3.1: %q: %v, %v", s, l, err)
 		}
 	}
 	if l, err := Read("\xff\xff\xff\xff\xff\xff\xff\xffab"); l != nil || !errors.Is(err, api.ErrShort) {

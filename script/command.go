@@ -43,10 +43,7 @@ func parse(line string) (command, error) {
 	count, text, ok := shape(verb)
 	c := command{verb: verb}
 	for i := 0; i < count && ok; i++ {
-		if ok = more; !ok {
-			break
-		}
-		word := ""
+		word := "" // where there is no more it stays so, and is no number
 		word, rest, more = strings.Cut(rest, " ")
 		c.n[i], ok = number(word)
 	}

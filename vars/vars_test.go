@@ -10,7 +10,7 @@ import (
 
 // P15.1: names of variables.
 func TestName(t *testing.T) {
-	for s, want := range map[string]string{"": "HTTP_", "Accept": "HTTP_ACCEPT", "x-A_b.9": "HTTP_X_A_B_9", "\xe9[z{": "HTTP___Z_"} {
+	for s, want := range map[string]string{"": "HTTP_", "Accept": "HTTP_ACCEPT", "x-A_b.9": "HTTP_X_A_B_9", "azAZ09/:@[`{": "HTTP_AZAZ09______", "\xe9[z{": "HTTP___Z_"} {
 		if got := Name(s); got != want {
 			t.Errorf("P15.1: Name %q: %q", s, got)
 		}
@@ -38,6 +38,7 @@ func TestBuild(t *testing.T) {
 		{0, api.Request{Method: "GET", Target: "/"}, api.Route{}, nil},
 		{3, api.Request{Method: "PUT", Target: "/a?b?c", Minor: 1, Body: "0123456789a"}, api.Route{Rule: 7, Script: "/s", Info: "/i"}, map[string]string{"REMOTE_ADDR": "10.0.0.4", "REQUEST_METHOD": "PUT", "REQUEST_URI": "/a?b?c", "QUERY_STRING": "b?c", "SERVER_PROTOCOL": "HTTP/1.1", "CONTENT_LENGTH": "11", "SCRIPT_NAME": "/s", "PATH_INFO": "/i"}},
 		{0, api.Request{Method: "GET", Target: "/", Fields: pairs{{Name: "HOST", Value: "A.b:81"}, {Name: "host", Value: "c"}}}, api.Route{}, map[string]string{"SERVER_NAME": "a.b"}},
+		{0, api.Request{Method: "GET", Target: "/", Fields: pairs{{Name: "Host", Value: "D"}}}, api.Route{}, map[string]string{"SERVER_NAME": "d"}},
 		{0, api.Request{Method: "GET", Target: "/", Fields: pairs{{Name: "Host", Value: ":81"}, {Name: "Host", Value: "c"}}}, api.Route{}, nil},
 		{0, api.Request{Method: "GET", Target: "/", Fields: pairs{{Name: "content-type", Value: "a"}, {Name: "Content-Type", Value: "b"}}}, api.Route{}, map[string]string{"CONTENT_TYPE": "a"}},
 		{0, api.Request{Method: "GET", Target: "/", Fields: pairs{{Name: "Content-Type"}}}, api.Route{}, map[string]string{"CONTENT_TYPE": ""}},

@@ -190,6 +190,37 @@ func TestCalm(t *testing.T) {
 	}
 }
 
+// P27.2: of a request that was cut the end alone is said, be it whole or not.
+func TestCalmCut(t *testing.T) {
+	for _, n := range []int{1, 1 << 20} {
+		w := New(conf.Small())
+		do(t, w, connect(0), feed(0, get), api.Act{Kind: api.BDrain, Who: 1, N: n}, say(1, out(1, "")))
+		do(t, w, api.Act{Kind: api.AClose})
+		w.Calm(1)
+		if got := w.Gate().Pool().Conns(); !slices.Equal(got, []int{1}) || len(w.Ends(1)) != 1 {
+			t.Errorf("P27.2: more is said than the end: %v, %v", got, w.Ends(1))
+		}
+	}
+}
+
+// P27.2: 4000 bytes of each, in each step.
+func TestCalmDrains(t *testing.T) {
+	w := New(conf.Small())
+	do(t, w, connect(0), connect(1), feed(0, put(strings.Repeat("a", 3900))), feed(1, put(strings.Repeat("b", 3900))))
+	for n := 1; n <= 2; n++ {
+		w.Calm(1)
+		if got := len(w.Said(1)); got != n*4000 {
+			t.Errorf("P27.2: step %d: %d bytes", n, got)
+		}
+	}
+	w.Calm(1) // both are answered
+	waits := w.Gate().Client(0).Waits()
+	w.Calm(1)
+	if got := len(w.Got(0, 1)); waits <= 4000 || got != 4000 {
+		t.Errorf("P27.2: %d bytes of %d", got, waits)
+	}
+}
+
 // P27.2: each step is a tick, 300 at most; answers come in one BFeed, by id.
 func TestCalmSteps(t *testing.T) {
 	c := conf.Small()
@@ -416,6 +447,50 @@ func TestCuts(t *testing.T) {
 		w.Calm(9)
 		if got := w.Got(0, 1); got != want || w.Gate().Client(0) != nil || len(l) != 4 || request.Keep(l[3]) {
 			t.Errorf("P40.1: cut by %d: %q", size, got)
+		}
+	}
+}
+
+// P40.6, P40.4: whatever is handed over, each call comes back, and all stays right.
+func TestTotal(t *testing.T) {
+	pieces := []string{get, "GET ", "/x HTTP/1.1\r\n", "Host: a\r\n", "\r\n", "\n", "Transfer-Encoding: chunked\r\n", "3\r\nabc\r\n", "0\r\n\r\n", "Expect: 100-continue\r\n", "Content-Length: 3\r\n", "\x00", "HEAD ", "/%2e%2e HTTP/1.0\r\n", strings.Repeat("x", 900)}
+	for seed := range int64(200) {
+		rnd := rand.New(rand.NewSource(seed))
+		c := conf.Small()
+		c.Timeout, c.IDs, c.Conns, c.Out = 1+rnd.Intn(4), 1+rnd.Intn(2), 1+rnd.Intn(2), 500+rnd.Intn(500)
+		w := New(c)
+		for range 200 {
+			a := api.Act{Kind: rnd.Intn(11), Who: rnd.Intn(6) - 1, N: rnd.Intn(300) - 10}
+			switch a.Kind {
+			case api.AStop:
+				if rnd.Intn(30) > 0 {
+					a.Kind = api.AConnect
+				}
+			case api.AFeed:
+				a.Data = pieces[rnd.Intn(len(pieces))] + pieces[rnd.Intn(len(pieces))]
+			case api.BFeed:
+				id := rnd.Intn(3)
+				l := []api.Record{out(id, typed), out(id, "x\n"), out(id, ""), end(id), kind.End(id, api.End{Protocol: rnd.Intn(5)}), {Type: api.TStderr, ID: id}, kind.Unknown(7), out(id, strings.Repeat("y", 600)), {Type: rnd.Intn(13), ID: id}}
+				a.Data = record.Bytes(l[rnd.Intn(len(l))]) + record.Bytes(l[rnd.Intn(len(l))])
+				if rnd.Intn(20) == 0 {
+					a.Data = a.Data[rnd.Intn(len(a.Data)+1):]
+				}
+			}
+			w.Do(a)
+			if !w.Right() {
+				t.Fatalf("P40.4: seed %d: act %v: it isn't right any more", seed, a)
+			}
+		}
+		w.Calm(30)
+		w.Do(api.Act{Kind: api.AStop})
+		w.Calm(30)
+		for _, x := range w.Gate().Told() {
+			if x.Outcome == 0 {
+				t.Errorf("P40.5: seed %d: %v has no outcome", seed, x)
+			}
+		}
+		if !w.Right() {
+			t.Errorf("P40.4: seed %d: it isn't right in the end", seed)
 		}
 	}
 }
