@@ -295,6 +295,21 @@ func TestRouted(t *testing.T) {
 	r.gone(0, false) // the close that a ware added isn't the client's
 }
 
+// P24.1: a client that waits for a word ahead of its body gets it, and then its answer.
+func TestContinue(t *testing.T) {
+	r := newRig(t, nil)
+	r.connect(0)
+	r.feed(0, "PUT /x HTTP/1.1\r\nHost: a\r\nExpect: 100-continue\r\nContent-Length: 2\r\n\r\n")
+	r.told(0, reply.Continue())
+	r.feed(0, "ab")
+	r.take(1)
+	r.say(1, out(1, typed), end(1))
+	r.told(0, head200+"0\r\n\r\n")
+	if got := r.g.Told(); len(got) != 1 || got[0].Request.Body != "ab" {
+		t.Errorf("P24.1: %v", got)
+	}
+}
+
 // P24.2: no room: 503; the connection goes on.
 func TestNoRoom(t *testing.T) {
 	r := newRig(t, nil)
