@@ -3,6 +3,7 @@ package cgi
 import (
 	"errors"
 	"fmt"
+	"math/rand"
 	"reflect"
 	"strings"
 	"testing"
@@ -132,5 +133,24 @@ func TestMemory(t *testing.T) {
 	r.Head().Fields[0].Name = "changed"
 	if r.Head().Fields[0].Name != "Content-Type" {
 		t.Error("a head is changed")
+	}
+}
+
+// P16.1: whatever comes, however it is cut: the same head, the same behind it, the same error.
+func TestAnyCut(t *testing.T) {
+	pieces := []string{"\n", "\r\n", "\r", " ", "Status: 404", "Content-Type: a", "Location: /", "A: b\n", "abc", ":"}
+	for seed := range int64(3000) {
+		rnd := rand.New(rand.NewSource(seed))
+		s := ""
+		for range rnd.Intn(9) {
+			s += pieces[rnd.Intn(len(pieces))]
+		}
+		most, size := rnd.Intn(80), 1+rnd.Intn(6)
+		whole, cut := New(most), New(most)
+		want, wrong := whole.Feed(s)
+		got, _, err := feed(cut, s, size)
+		if got != want || err != wrong || !reflect.DeepEqual(cut.Head(), whole.Head()) || cut.Done() != whole.Done() {
+			t.Fatalf("P16.1: %q cut by %d: %q, %v, not %q, %v", s, size, got, err, want, wrong)
+		}
 	}
 }

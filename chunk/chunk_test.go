@@ -2,6 +2,7 @@ package chunk
 
 import (
 	"errors"
+	"math/rand"
 	"strings"
 	"testing"
 
@@ -117,5 +118,24 @@ func TestWrap(t *testing.T) {
 	r, s := New(1000), Wrap("ab")+Wrap("")+Wrap("\r\n")+Last()
 	if n, err := r.Feed(s); n != len(s) || err != nil || r.Body() != "ab\r\n" || !r.Done() {
 		t.Errorf("P8.3: %d, %v, %q", n, err, r.Body())
+	}
+}
+
+// P8.3: whatever comes, however it is cut: as much is taken, the same body, the same error.
+func TestAnyCut(t *testing.T) {
+	pieces := []string{"\r\n", "\r\n", "\r", "\n", "0", "1", "3", "a", "abc", ";x", " ", "3\r\nabc\r\n", "0\r\n", "T: u\r\n"}
+	for seed := range int64(3000) {
+		rnd := rand.New(rand.NewSource(seed))
+		s := ""
+		for range rnd.Intn(9) {
+			s += pieces[rnd.Intn(len(pieces))]
+		}
+		most, size := rnd.Intn(9), 1+rnd.Intn(6)
+		whole, cut := New(most), New(most)
+		want, wrong := feed(whole, s, len(s)+1)
+		got, err := feed(cut, s, size)
+		if got != want || err != wrong || cut.Body() != whole.Body() || cut.Done() != whole.Done() {
+			t.Fatalf("P8.3: %q cut by %d: %d, %v, not %d, %v", s, size, got, err, want, wrong)
+		}
 	}
 }

@@ -2,6 +2,7 @@ package cutter
 
 import (
 	"errors"
+	"math/rand"
 	"slices"
 	"strings"
 	"testing"
@@ -79,7 +80,11 @@ func TestErrors(t *testing.T) {
 				t.Errorf("P5.1: row %d, byte %d: %v", i, j, err)
 			}
 		}
-		for _, x := range []*Cutter{whole, single} {
+		alone := New(c.most)
+		if l, err = alone.Feed(c.bad + good); len(l) != 0 || !errors.Is(err, c.want) {
+			t.Errorf("P5.1: row %d, at once: %d, %v", i, len(l), err)
+		}
+		for _, x := range []*Cutter{whole, single, alone} {
 			for _, s := range []string{"", good} {
 				if l, err := x.Feed(s); l != nil || !errors.Is(err, api.ErrBreach) || !x.Dead() || x.Waits() != 0 {
 					t.Errorf("P5.1: row %d, dead: %v, %v, %d", i, l, err, x.Waits())
@@ -102,5 +107,30 @@ func TestMost(t *testing.T) {
 	}
 	if l, err := New(1 << 40).Feed(record.Bytes(api.Record{Type: 6, Content: "x"})); len(l) != 1 || err != nil {
 		t.Errorf("P5.1: a great limit: %v", err)
+	}
+}
+
+// P5.2: whatever comes, however it is cut: the same records, the same error, the same that waits.
+func TestAnyCut(t *testing.T) {
+	pieces := []string{"\x01\x06\x00\x01\x00\x02\x01\x00abc", "\x01\x05\x00\x01\x00\x00\x00\x00", "\x01\x00\x00\x01\x00\x01\x00\x00a", "\x01\x06\x00", "\x01", "\x00", "\x02", "\x01\x06\x00\x01\x01\x00\x00\x00", "ab"}
+	for seed := range int64(3000) {
+		rnd := rand.New(rand.NewSource(seed))
+		s := ""
+		for range rnd.Intn(8) {
+			s += pieces[rnd.Intn(len(pieces))]
+		}
+		most, size := rnd.Intn(4), 1+rnd.Intn(9)
+		whole, cut := New(most), New(most)
+		want, wrong := whole.Feed(s)
+		var got []api.Record
+		var err error
+		for i := 0; i < len(s) && err == nil; i += size {
+			var l []api.Record
+			l, err = cut.Feed(s[i:min(i+size, len(s))])
+			got = append(got, l...)
+		}
+		if !slices.Equal(got, want) || err != wrong || cut.Waits() != whole.Waits() || cut.Dead() != whole.Dead() {
+			t.Fatalf("P5.2: %q cut by %d: %v, %v, not %v, %v", s, size, got, err, want, wrong)
+		}
 	}
 }

@@ -3,6 +3,7 @@ package request
 import (
 	"errors"
 	"fmt"
+	"math/rand"
 	"reflect"
 	"strings"
 	"testing"
@@ -264,6 +265,27 @@ func TestKeep(t *testing.T) {
 		}
 		if Keep(q) != c.want {
 			t.Errorf("P9.2: Keep, row %d", i)
+		}
+	}
+}
+
+// P9.3: whatever comes, however it is cut: as much is taken, the same request, the same error.
+func TestAnyCut(t *testing.T) {
+	pieces := []string{"|", "|", "\r", "\n", " ", "GET / HTTP/1.1|Host: a|", "GET / HTTP/1.0|", "HTTP/1.1", "PUT ", "/", "Content-Length: 3|", "Transfer-Encoding: chunked|", "Expect: 100-continue|", "A: b|", "3|abc|", "0||", "abc"}
+	for seed := range int64(5000) {
+		rnd := rand.New(rand.NewSource(seed))
+		s := ""
+		for range rnd.Intn(9) {
+			s += pieces[rnd.Intn(len(pieces))]
+		}
+		s = lines(s)
+		head, body, size := rnd.Intn(150), rnd.Intn(8), 1+rnd.Intn(7)
+		whole, cut := New(head, body), New(head, body)
+		want, wrong := feed(whole, s, len(s)+1)
+		got, err := feed(cut, s, size)
+		same := reflect.DeepEqual(cut.Request(), whole.Request()) && cut.Done() == whole.Done() && cut.Expects() == whole.Expects() && cut.Began() == whole.Began()
+		if got != want || err != wrong || !same {
+			t.Fatalf("P9.3: %q cut by %d: %d, %v, not %d, %v", s, size, got, err, want, wrong)
 		}
 	}
 }
