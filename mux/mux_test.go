@@ -237,3 +237,37 @@ func TestErrors(t *testing.T) {
 		t.Error("P20.1: a new one")
 	}
 }
+
+// P20.2: what is Dead keeps its Live as it was, whatever is done with it: lanes that weren't begun, that were, that were
+// aborted or had ended with an abort still to be said.
+func TestDeadStays(t *testing.T) {
+	m := New(8)
+	open(t, m, "", 1)
+	open(t, m, "", 2)
+	m.Drain(16) // ids 1 and 2 are in the midst
+	m.Drain(16)
+	open(t, m, "", 3)
+	m.Drain(1)
+	open(t, m, "", 4)
+	m.Abort(2)
+	feed(t, m, bytesOf(end(3)), ended(3))
+	open(t, m, "", 5)
+	m.Abort(4) // ahead of its death an Abort frees what wasn't begun
+	live(t, m, 1, 2, 3, 5)
+	if got, err := m.Feed("y"); got != nil || !errors.Is(err, api.ErrVersion) || !m.Dead() {
+		t.Fatalf("P20.2: %v, %v", got, err)
+	}
+	for _, do := range []func(){
+		func() { m.Abort(5) }, func() { m.Abort(1) }, func() { m.Abort(2) }, func() { m.Abort(3) }, func() { m.Abort(4) }, func() { m.Abort(0) }, func() { m.Abort(9) },
+		func() { m.Open(nil, "") }, func() { m.Feed(bytesOf(end(1))) }, func() { m.Drain(1 << 20) }, func() { m.Abort(5) },
+	} {
+		do()
+		live(t, m, 1, 2, 3, 5)
+		if m.Pending() || m.Drain(1<<20) != "" || !m.Dead() || !slices.Equal(m.Ends(), []int{3}) {
+			t.Errorf("P20.2: pending, or not dead, or other ends: %v", m.Ends())
+		}
+		if got, err := m.Feed(""); got != nil || !errors.Is(err, api.ErrBreach) {
+			t.Errorf("P20.2: dead: %v, %v", got, err)
+		}
+	}
+}
