@@ -18,34 +18,44 @@ type command struct {
 	text string
 }
 
-// shape tells how many numbers stand behind a verb, and whether a text does; false of no verb.
-func shape(verb string) (int, bool, bool) {
+// words tells what stands behind a verb: C a client, P a connection's, I an id's, N a number, T a text (the last one, if
+// any); false of no verb.
+func words(verb string) (string, bool) {
 	switch verb {
 	case "tick", "stop", "conns", "right", "empty":
-		return 0, false, true
-	case "connect", "close", "shut", "calm", "live", "waits":
-		return 1, false, true
-	case "drain", "take", "got", "told":
-		return 2, false, true
+		return "", true
+	case "connect", "close", "waits":
+		return "C", true
+	case "shut", "live":
+		return "P", true
+	case "calm":
+		return "N", true
+	case "drain", "got", "told":
+		return "CN", true
+	case "take":
+		return "PN", true
 	case "end":
-		return 3, false, true
-	case "feed", "raw":
-		return 1, true, true
+		return "PIN", true
+	case "feed":
+		return "CT", true
+	case "raw":
+		return "PT", true
 	case "out", "err":
-		return 2, true, true
+		return "PIT", true
 	}
-	return 0, false, false
+	return "", false
 }
 
 // parse reads a line.
 func parse(line string) (command, error) {
 	verb, rest, more := strings.Cut(line, " ")
-	count, text, ok := shape(verb)
+	all, ok := words(verb)
+	counted, text := strings.CutSuffix(all, "T")
 	c := command{verb: verb}
-	for i := 0; i < count && ok; i++ {
+	for i := 0; i < len(counted) && ok; i++ {
 		word := "" // where there is no more it stays so, and is no number
 		word, rest, more = strings.Cut(rest, " ")
-		c.n[i], ok = number(word)
+		c.n[i], ok = number(counted[i], word)
 	}
 	// a text may be nothing, but then there is no blank ahead of it
 	if !ok || more && (!text || rest == "") {
@@ -55,10 +65,15 @@ func parse(line string) (command, error) {
 	return c, nil
 }
 
-// number reads a number without a nought ahead.
-func number(word string) (int, bool) {
+// number reads a number without a nought ahead. A client's must be one of those that may connect; whether a connection,
+// an id, a turn is there only the world can tell.
+func number(kind byte, word string) (int, bool) {
 	if len(word) > maxDigits || len(word) > 1 && word[0] == '0' {
 		return 0, false
 	}
-	return octet.Dec(word)
+	n, ok := octet.Dec(word)
+	if !ok || kind == 'C' && n >= api.MaxClients {
+		return 0, false
+	}
+	return n, true
 }

@@ -49,7 +49,7 @@ func TestThereAndBack(t *testing.T) {
 	if got := s.World().Got(0, 1); !strings.HasSuffix(got, "Content-Type: text/plain\r\nTransfer-Encoding: chunked\r\nConnection: keep-alive\r\n\r\n0\r\n\r\n") {
 		t.Errorf("P28.2: %q", got)
 	}
-	run(t, s, "close 0", "connect 0", "got 0 2 => nothing", "told 0 2 => nothing", "told 9 9 => nothing", "got 9 9 => nothing", "waits 9 => 0", "live 9 => nothing")
+	run(t, s, "close 0", "connect 0", "got 0 2 => nothing", "told 0 2 => nothing", "told 0 999999 => nothing", "got 3 9 => nothing", "told 3 0 => nothing", "waits 3 => 0", "live 9 => nothing")
 }
 
 // P28.1: each kind of an outcome, and ids and connections side by side.
@@ -63,7 +63,7 @@ func TestOutcomes(t *testing.T) {
 // P28.1: errors of acts are told by their numbers.
 func TestErrors(t *testing.T) {
 	s := New()
-	run(t, s, "connect 4 => error 17", "connect 999999 => error 17", "feed 0 x => error 17", "feed 0 => error 17", "drain 0 1 => error 17", "close 0 => error 17", "take 1 1 => error 17", "take 0 0 => error 17", "shut 1 => error 17", "out 1 1 x => error 17", "err 1 1 => error 17", "end 1 1 0 => error 17", "raw 1 x => error 17",
+	run(t, s, "feed 3 x => error 17", "drain 3 1 => error 17", "close 3 => error 17", "feed 0 x => error 17", "feed 0 => error 17", "drain 0 1 => error 17", "close 0 => error 17", "take 1 1 => error 17", "take 0 0 => error 17", "shut 1 => error 17", "out 1 1 x => error 17", "err 1 1 => error 17", "end 1 1 0 => error 17", "raw 1 x => error 17",
 		"connect 0", "connect 0 => error 19", "close 0", "stop", "connect 0 => error 19", "empty => yes", "tick", "calm 0")
 }
 
@@ -128,6 +128,25 @@ func TestNoLine(t *testing.T) {
 		}
 	}
 	run(t, s, "told 0 1 => waits", "conns => 1", "live 1 => 1", "waits 0 => 0", "right => yes", "empty => no", "connect 3")
+}
+
+// P28.1: C is a client: a number of none makes no line, and nothing is changed; other numbers are of any size.
+func TestClients(t *testing.T) {
+	s := New()
+	run(t, s, "connect 0", "feed 0 "+get, "take 1 1")
+	for _, n := range []string{"4", "5", "9", "10", "40", "999999"} {
+		for _, line := range []string{"connect " + n, "feed " + n, "feed " + n + " x", "drain " + n + " 1", "close " + n, "got " + n + " 1", "told " + n + " 1", "waits " + n} {
+			if got, err := s.Do(line); got != nil || !errors.Is(err, api.ErrLine) {
+				t.Errorf("P28.1: %q: %q, %v", line, got, err)
+			}
+		}
+		run(t, s, "take "+n+" 1 => error 17", "shut "+n+" => error 17", "out "+n+" 1 x => error 17", "err "+n+" "+n+" => error 17", "end "+n+" 1 1 => error 17", "raw "+n+" x => error 17",
+			"live "+n+" => nothing", "drain 0 "+n, "got 0 "+n+" => nothing", "told 0 "+n+" => nothing")
+	}
+	run(t, s, "told 0 1 => waits", "conns => 1", "live 1 => 1", "empty => no", "right => yes")
+	for _, n := range []string{"1", "2", "3"} {
+		run(t, s, "feed "+n+" x => error 17", "drain "+n+" 1 => error 17", "close "+n+" => error 17", "waits "+n+" => 0", "got "+n+" 1 => nothing", "told "+n+" 1 => nothing", "connect "+n, "waits "+n+" => 0", "feed "+n, "drain "+n+" 1", "close "+n)
+	}
 }
 
 // P28.1: calm is held.
