@@ -134,21 +134,18 @@ func TestOutErrors(t *testing.T) {
 	}
 }
 
-// P22.1: what has no body, by its status.
+// P22.1: what has no body, by its status: a part that comes with the head, or behind it, isn't told.
 func TestBare(t *testing.T) {
 	for _, status := range []string{"204", "304"} {
-		a := New(get("GET", 0, "keep-alive"), 100, false)
-		got, err := a.Out("Status: " + status + "\n\nlost")
-		more, _ := a.Out("lost")
-		end, ok := a.End()
-		want := "HTTP/1.1 " + status + " " + reply.Reason(a.Status()) + "\r\nConnection: keep-alive\r\n\r\n"
-		if got+more+end != want || err != nil || !ok || !a.Keeps() {
-			t.Errorf("P22.1: %q, %v, %v", got+more+end, err, a.Keeps())
-		}
-		a = New(get("GET", 1, ""), 100, false)
-		a.Out("Status: " + status + "\n\n")
-		if end, ok := a.End(); end != "" || !ok || !a.Keeps() {
-			t.Errorf("P22.1: the end of what is bare: %q", end)
+		for _, r := range []api.Request{get("GET", 0, "keep-alive"), get("GET", 1, ""), get("HEAD", 1, "")} {
+			a := New(r, 100, false)
+			got, err := a.Out("Status: " + status + "\n\nlost")
+			more, _ := a.Out("lost")
+			end, ok := a.End()
+			want := "HTTP/1.1 " + status + " " + reply.Reason(a.Status()) + "\r\nConnection: keep-alive\r\n\r\n"
+			if got != want || more != "" || end != "" || err != nil || !ok || !a.Keeps() {
+				t.Errorf("P22.1: %q, %q, %q, %v, %v", got, more, end, err, a.Keeps())
+			}
 		}
 	}
 }
